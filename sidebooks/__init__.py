@@ -1,0 +1,1 @@
+"""Books of linear questions, and all that can be answered together."""

@@ -1,0 +1,133 @@
+"""What numbers, points, questions, rows and wishes are, and exact reckoning with them."""
+
+from math import gcd
+
+from sidebooks.errors import InvalidIndex, InvalidPoint
+
+
+def is_whole(told):
+    """True and False are integers for Python, but not for this program."""
+    return isinstance(told, int) and not isinstance(told, bool)
+
+
+def is_number(told):
+    if not isinstance(told, tuple) or len(told) != 2:
+        return False
+    top, bottom = told
+    return is_whole(top) and is_whole(bottom) and bottom > 0 and gcd(top, bottom) == 1
+
+
+def is_point(told):
+    return isinstance(told, tuple) and len(told) > 0 and all(is_number(x) for x in told)
+
+
+def are_sides(told):
+    """True for a tuple of integers that are not all 0."""
+    return isinstance(told, tuple) and all(is_whole(side) for side in told) and any(told)
+
+
+def is_question(told):
+    """True for a question of any number of unknowns."""
+    if not isinstance(told, tuple) or len(told) != 2:
+        return False
+    sides, wall = told
+    return are_sides(sides) and is_whole(wall)
+
+
+def is_question_of(told, d):
+    return is_question(told) and len(told[0]) == d
+
+
+def is_answer(told):
+    return is_whole(told) and -1 <= told <= 1
+
+
+def is_wish_of(told, many):
+    """True for a wish of a book of so many questions."""
+    if not isinstance(told, tuple) or len(told) != many:
+        return False
+    return all(item is None or is_answer(item) for item in told)
+
+
+def is_index(told, many):
+    return is_whole(told) and 0 <= told < many
+
+
+def check_point(point, d):
+    if not is_point(point) or len(point) != d:
+        raise InvalidPoint(point)
+
+
+def check_index(index, many):
+    if not is_index(index, many):
+        raise InvalidIndex(index)
+
+
+def sign(whole):
+    if whole == 0:
+        return 0
+    return 1 if whole > 0 else -1
+
+
+def lowest(top, bottom):
+    """The number of a top and a bottom above 0."""
+    common = gcd(top, bottom)
+    return (top // common, bottom // common)
+
+
+def plus(a, b):
+    return lowest(a[0] * b[1] + b[0] * a[1], a[1] * b[1])
+
+
+def minus(a, b):
+    return lowest(a[0] * b[1] - b[0] * a[1], a[1] * b[1])
+
+
+def times(a, b):
+    return lowest(a[0] * b[0], a[1] * b[1])
+
+
+def come_to(sides, point):
+    """The sum of the sides, each times the point's number."""
+    gathered = (0, 1)
+    for side, x in zip(sides, point):
+        gathered = plus(gathered, times((side, 1), x))
+    return gathered
+
+
+def common_of(wholes):
+    """The greatest integer that divides all of them, 0 if all are 0."""
+    common = 0
+    for whole in wholes:
+        common = gcd(common, whole)
+    return common
+
+
+def begins_at(wholes):
+    """The first place that is not 0, of integers that are not all 0."""
+    at = 0
+    while wholes[at] == 0:
+        at += 1
+    return at
+
+
+def rank_of(rows):
+    """How many of some tuples of integers, at most, have none that is a sum of numbers times others."""
+    kept = []
+    for row in rows:
+        rest = row
+        # Each kept one has 0 where those kept before it begin, so none brings back what they took out.
+        for begun in kept:
+            rest = _taken_out(rest, begun)
+        if any(rest):
+            kept.append(rest)
+    return len(kept)
+
+
+def _taken_out(row, begun):
+    """A multiple of a row, less one of a begun row that leaves 0 where this one begins."""
+    at = begins_at(begun)
+    rest = [begun[at] * x - row[at] * y for x, y in zip(row, begun)]
+    # Undivided, the integers would grow with each row that is taken out.
+    common = common_of(rest)
+    return [x // common for x in rest] if common > 1 else rest

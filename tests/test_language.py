@@ -1,0 +1,87 @@
+"""The rules of the language that a plain look at the files can tell: L1, L2, L8, L10, L12, L14 to L16."""
+
+import ast
+import builtins
+import unittest
+from pathlib import Path
+
+PACKAGE = Path(__file__).resolve().parent.parent / "sidebooks"
+FILES = sorted(PACKAGE.rglob("*.py"))
+LIBRARY = {"math": {"gcd", "lcm", "isqrt", "comb", "perm", "factorial"},
+           "itertools": {"product", "combinations", "permutations"}}
+ALLOWED = set("""len range enumerate zip min max sum abs sorted reversed int str bool list tuple dict set isinstance
+    ord repr any all divmod pow iter next map ValueError TypeError KeyError IndexError LookupError ZeroDivisionError
+    """.split())
+# Not `_`, under which Python keeps what a console showed last.
+BUILTINS = set(dir(builtins)) - {"_"}
+
+
+def bound_names(tree):
+    """What is bound in a file: at module level, and within functions."""
+    outer, inner = [], []
+    for node in tree.body:
+        if isinstance(node, (ast.FunctionDef, ast.ClassDef)):
+            outer.append(node.name)
+        elif isinstance(node, ast.ImportFrom):
+            outer.extend(alias.asname or alias.name for alias in node.names)
+        elif isinstance(node, ast.Assign):
+            outer.extend(target.id for target in node.targets)
+    for node in ast.walk(tree):
+        if isinstance(node, ast.arg):
+            inner.append(node.arg)
+        elif isinstance(node, ast.Name) and isinstance(node.ctx, ast.Store):
+            inner.append(node.id)
+    return outer, inner
+
+
+TREES = [(path, ast.parse(path.read_text())) for path in FILES]
+
+
+class Language(unittest.TestCase):
+    def test_the_folder_holds_plain_files_alone(self):
+        others = [path.name for path in PACKAGE.iterdir() if path.suffix != ".py" and path.name != "__pycache__"]
+        self.assertEqual(others, [])
+        self.assertIn("__init__.py", [path.name for path in FILES])
+
+    def test_sizes_and_signs(self):
+        for path, tree in TREES:
+            text = path.read_text()
+            self.assertLessEqual(len(text.splitlines()), 399)
+            self.assertLessEqual(max(len(line) for line in text.splitlines()), 120)
+            self.assertEqual([sign for sign in text if sign != "\n" and not " " <= sign <= "~"], [])
+            for node in ast.walk(tree):
+                if isinstance(node, ast.FunctionDef):
+                    self.assertLessEqual(node.end_lineno - node.lineno + 1, 40, node.name)
+
+    def test_imports(self):
+        for path, tree in TREES:
+            for node in ast.walk(tree):
+                self.assertNotIsInstance(node, ast.Import)
+                if isinstance(node, ast.ImportFrom):
+                    self.assertIn(node, tree.body)
+                    self.assertEqual(node.level, 0)
+                    names = {alias.name for alias in node.names}
+                    if node.module in LIBRARY:
+                        self.assertLessEqual(names, LIBRARY[node.module])
+                    else:
+                        home = PACKAGE / (node.module.removeprefix("sidebooks.") + ".py")
+                        self.assertLessEqual(names, set(bound_names(ast.parse(home.read_text()))[0]))
+
+    def test_names(self):
+        for path, tree in TREES:
+            outer, inner = bound_names(tree)
+            self.assertEqual(len(outer), len(set(outer)))
+            self.assertEqual([name for name in outer + inner if name in BUILTINS], [])
+            taken = [node.name for node in tree.body if isinstance(node, ast.ClassDef)]
+            taken += [alias.name for node in tree.body if isinstance(node, ast.ImportFrom) for alias in node.names]
+            self.assertEqual([name for name in inner if name in taken], [])
+            self.assertNotRegex(path.read_text(), r"\b(_wall|_WallAttr)\b")
+
+    def test_builtins(self):
+        for path, tree in TREES:
+            used = {node.id for node in ast.walk(tree) if isinstance(node, ast.Name) and node.id in BUILTINS}
+            self.assertLessEqual(used, ALLOWED)
+
+
+if __name__ == "__main__":
+    unittest.main()
