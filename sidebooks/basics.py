@@ -2,7 +2,7 @@
 
 from math import gcd
 
-from sidebooks.errors import InvalidIndex, InvalidPoint
+from sidebooks.errors import InvalidIndex, InvalidPoint, InvalidRow, InvalidWish
 
 
 def is_whole(told):
@@ -49,13 +49,33 @@ def is_wish_of(told, many):
     return all(item is None or is_answer(item) for item in told)
 
 
+def is_row_of(told, many):
+    """True for a row of a book of so many questions, whether it comes or not."""
+    return isinstance(told, tuple) and len(told) == many and all(is_answer(item) for item in told)
+
+
 def is_index(told, many):
     return is_whole(told) and 0 <= told < many
+
+
+def are_indexes(told, many):
+    """True for a tuple of indexes, in any sequence."""
+    return isinstance(told, tuple) and all(is_index(item, many) for item in told)
 
 
 def check_point(point, d):
     if not is_point(point) or len(point) != d:
         raise InvalidPoint(point)
+
+
+def check_wish(wish, many):
+    if not is_wish_of(wish, many):
+        raise InvalidWish(wish)
+
+
+def check_row(row, many):
+    if not is_row_of(row, many):
+        raise InvalidRow(row)
 
 
 def check_index(index, many):
@@ -87,8 +107,12 @@ def times(a, b):
     return lowest(a[0] * b[0], a[1] * b[1])
 
 
+def is_less(a, b):
+    return a[0] * b[1] < b[0] * a[1]
+
+
 def come_to(sides, point):
-    """The sum of the sides, each times the point's number."""
+    """The sum of the sides, or of other integers, each times the point's number."""
     gathered = (0, 1)
     for side, x in zip(sides, point):
         gathered = plus(gathered, times((side, 1), x))
@@ -113,20 +137,32 @@ def begins_at(wholes):
 
 def rank_of(rows):
     """How many of some tuples of integers, at most, have none that is a sum of numbers times others."""
+    return len(kept_of(rows))
+
+
+def kept_of(rows):
+    """Rests of as few of the tuples as make all of them; each has 0 where those before it begin."""
     kept = []
     for row in rows:
-        rest = row
-        # Each kept one has 0 where those kept before it begin, so none brings back what they took out.
-        for begun in kept:
-            rest = _taken_out(rest, begun)
+        rest = rest_of(row, kept)
         if any(rest):
             kept.append(rest)
-    return len(kept)
+    return kept
 
 
-def _taken_out(row, begun):
-    """A multiple of a row, less one of a begun row that leaves 0 where this one begins."""
-    at = begins_at(begun)
+def rest_of(row, kept):
+    """A multiple of a row, less multiples of kept ones, that has 0 where these begin."""
+    rest = row
+    # Each kept one has 0 where those kept before it begin, so none brings back what they took out.
+    for begun in kept:
+        at = begins_at(begun)
+        if rest[at] != 0:
+            rest = _taken_out(rest, begun, at)
+    return rest
+
+
+def _taken_out(row, begun, at):
+    """A multiple of a row, less one of a begun row that leaves 0 at the place where this one begins."""
     rest = [begun[at] * x - row[at] * y for x, y in zip(row, begun)]
     # Undivided, the integers would grow with each row that is taken out.
     common = common_of(rest)

@@ -30,6 +30,11 @@ def book(d, questions):
     for question in questions:
         if not is_question_of(question, d):
             raise InvalidQuestion(question)
+    return made_book(d, questions)
+
+
+def made_book(d, questions):
+    """The book of questions that surely are some of d unknowns."""
     seen = set()
     kept = []
     for question in questions:
@@ -64,20 +69,24 @@ def moved(book, point):
 def at_once(book):
     check_book(book)
     # The walls can be met together exactly if they ask no more of the point than the sides do.
-    return rank_of(_all_sides(book)) == rank_of([sides + (wall,) for sides, wall in book[1]])
+    return rank_of(all_sides(book)) == rank_of(sides_with_walls(book))
 
 
 def rank(book):
     check_book(book)
-    return rank_of(_all_sides(book))
+    return rank_of(all_sides(book))
 
 
 def _is_many(d):
     return is_whole(d) and d >= 1
 
 
-def _all_sides(book):
-    return [question[0] for question in book[1]]
+def all_sides(book):
+    return [sides for sides, _ in book[1]]
+
+
+def sides_with_walls(book):
+    return [sides + (wall,) for sides, wall in book[1]]
 
 
 def _divided(question):

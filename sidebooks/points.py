@@ -1,9 +1,9 @@
 """Points, the answers that books give at them, and what lies between two of them."""
 
-from sidebooks.basics import check_point, come_to, is_number, is_point, is_question, is_wish_of
+from sidebooks.basics import check_point, check_wish, come_to, is_number, is_point, is_question
 from sidebooks.basics import minus, plus, sign, times
 from sidebooks.books import check_book
-from sidebooks.errors import InvalidNumber, InvalidPoint, InvalidQuestion, InvalidWish
+from sidebooks.errors import InvalidNumber, InvalidPoint, InvalidQuestion
 
 
 def answer(question, point):
@@ -21,8 +21,7 @@ def row_of(book, point):
 
 def fits(book, wish, point):
     check_book(book)
-    if not is_wish_of(wish, len(book[1])):
-        raise InvalidWish(wish)
+    check_wish(wish, len(book[1]))
     check_point(point, book[0])
     row = _row_at(book, point)
     return all(wished is None or wished == given for wished, given in zip(wish, row))

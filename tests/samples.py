@@ -25,6 +25,34 @@ BOOKS = [
     (3, (((1, 1, 1), 1), ((1, 1, 1), 2), ((2, 0, 0), 4), ((1, 2, 3), 6), ((-1, 0, 9), 8), ((0, 4, -6), -2))),
 ]
 
+
+def web_book(n, ties):
+    """The book of a web: for each tie the one's unknown less the other's, against 0."""
+    return (n, tuple((tuple((k == i) - (k == j) for k in range(n)), 0) for i, j in ties))
+
+
+WEB_BOOKS = [
+    web_book(2, [(0, 1)]),
+    web_book(3, [(0, 1), (1, 2)]),
+    web_book(3, [(0, 1), (0, 2), (1, 2)]),
+    web_book(4, [(0, 1), (2, 3)]),
+    web_book(4, [(0, 1), (0, 3), (1, 2), (2, 3)]),
+    web_book(4, [(0, 1), (0, 2), (0, 3), (1, 2), (1, 3), (2, 3)]),
+]
+SHELF = WEB_BOOKS[5]
+
+# Books in the plane and in space whose questions all pass through one point, or none through any three.
+CROSS = (2, (((1, 0), 0), ((0, 1), 0)))
+STAR = (2, (((1, 0), 1), ((0, 1), 2), ((1, 1), 3), ((1, -1), -1)))
+CORNER = (3, (((1, 0, 0), 1), ((0, 2, 0), 2), ((1, 1, 1), 3), ((0, 0, -1), -1)))
+SPREAD = (3, (((1, 0, 0), 0), ((0, 1, 0), 0), ((0, 0, 1), 0), ((1, 1, 1), 1), ((1, 2, -3), 4)))
+STRIPES = (2, (((1, -1), 0), ((2, -2), 1), ((-1, 1), 3)))
+MOVED_THREE = (2, (((FORTY, 0), 1), ((0, 1), FORTY), ((FORTY, FORTY), 1 + FORTY * FORTY + FORTY)))
+
+MORE_BOOKS = BOOKS + WEB_BOOKS + [CROSS, STAR, CORNER, SPREAD, STRIPES, MOVED_THREE]
+# Those of few questions, of which all wishes can be tried.
+SMALL_BOOKS = [book for book in MORE_BOOKS if len(book[1]) <= 4]
+
 COORDINATES = [(0, 1), (1, 1), (-1, 1), (1, 2), (-5, 3), (FORTY, FORTY + 1), (-FORTY, 2), (1, FORTY)]
 
 
@@ -95,6 +123,35 @@ def no_wishes(book):
     if many == 0:
         return wrong
     return wrong + [(), right[1:]] + [right[:-1] + (x,) for x in items] + [(x,) + right[1:] for x in items]
+
+
+def no_rows(book):
+    """What is no row of a book, whether it comes or not."""
+    many = len(book[1])
+    right = (-1, 0, 1, 1, 0, -1)[:many]
+    wrong = [None, True, 7, "r" * many, "nope", b"nope", {}, object(), list(right), right + (0,), right + (1, 1)]
+    if many == 0:
+        return wrong + [[], "", (None,)]
+    items = [None, True, False, 2, -2, 0.0, 1.0, "0", "", (), (0,), [1], FORTY]
+    return wrong + [(), right[1:]] + [right[:-1] + (x,) for x in items] + [(x,) + right[1:] for x in items]
+
+
+def no_papers(book):
+    """What is no tuple of as many numbers as questions."""
+    many = len(book[1])
+    right = ((0, 1), (-1, 2), (3, 1), (0, 1), (1, 1), (5, 7))[:many]
+    wrong = [None, True, 7, "p" * many, "nope", b"nope", {}, object(), list(right), right + ((0, 1),)]
+    if many == 0:
+        return wrong + [[], ""]
+    wrong = wrong + [(), right[1:], (0,) * many]
+    return wrong + [right[:-1] + (x,) for x in NO_NUMBERS] + [(x,) + right[1:] for x in NO_NUMBERS]
+
+
+def no_index_tuples(book):
+    """What is no tuple of indexes of a book."""
+    wrong = [None, True, 7, 0, "i", b"", {}, object(), [], [0], [0, 1], {0: 1}]
+    wrong = wrong + [(x,) for x in no_indexes(book)]
+    return wrong + [(0, x) for x in no_indexes(book)] if book[1] else wrong + [(0,), (0, 0)]
 
 
 def no_indexes(book):

@@ -15,6 +15,37 @@ EXAMPLES = '''
 >>> from sidebooks.points import between, fits, row_between, row_of
 >>> [row_of(three, ((0, 1), (1, 2))), fits(three, (None, 1, -1), ((0, 1), (1, 2))), row_between(three, ((0, 1), (1, 1)), ((1, 1), (1, 1)))]
 [(0, 1, -1), True, (1, 1, 1)]
+
+>>> from sidebooks.papers import comes, forced, is_paper, settle, short_paper
+>>> [comes(three, (-1, -1, 1)), is_paper(three, (-1, -1, 1), ((-1, 1), (-1, 1), (1, 1))), short_paper(three, (-1, -1, 1))]
+[False, True, (0, 1, 2)]
+>>> [settle(three, (-1, -1, 1))[0], forced(three, (-1, None, 1)), forced(three, (0, 0, None))]
+['never', ((-1,), (1,), (1,)), ((0,), (0,), (-1,))]
+
+>>> from sidebooks.rows import first_row, full_rows, held_rows, is_held, noughts, walls
+>>> [len(full_rows(three)), noughts(three), held_rows(three)[:2], is_held(three, (1, 1, -1)), walls(three, (1, 1, -1)), first_row(three, (0, None, None))]
+[7, (3, 9, 7), [(0, 0, -1), (0, 1, -1)], True, (0, 1, 2), (0, -1, -1)]
+
+>>> from sidebooks.products import above, ahead, is_under, parts
+>>> [ahead(three, (0, 1, -1), (1, -1, -1)), parts(three, (1, 1, 1), (-1, 1, -1)), is_under(three, (0, 0, -1), (1, 1, -1)), len(above(three, (0, 0, -1)))]
+[(1, 1, -1), (0, 2), True, 9]
+
+>>> from sidebooks.alikes import alike_by, barred, unlike
+>>> [barred(three), unlike(three, turned(three, 0)), alike_by(three, without((2, three[1] + (((1, -1), 0),)), 3))]
+[[(-1, -1, 1)], (-1, -1, 0), ((0, 1, 2), (1, 1, 1))]
+
+>>> from sidebooks.flats import closure, flats, sign_number
+>>> two = without(three, 2)
+>>> [flats(three), closure(three, (0, 1, 2)), [sign_number(two, flat) for flat in flats(two)]]
+[[(), (0,), (1,), (2,), (0, 1), (0, 2), (1, 2)], None, [1, -1, -1, 1]]
+
+>>> from sidebooks.polynomials import how_many, merged, polynomial, rows_by_free, value
+>>> [polynomial(three), value(polynomial(three), -1), how_many(three), merged(three, 2), rows_by_free(three)]
+[(1, -3, 3), 7, (7, 1), (1, (((1,), 0), ((-1,), -1))), (3, 9, 7)]
+
+>>> from sidebooks.roads import farthest, is_road, roads
+>>> [roads(three, (-1, -1, -1), (1, 1, 1)), is_road(three, (1, 1, -1), (1, 1, 1), (0, 2, 0)), farthest(three)]
+[[(0, 1, 2), (0, 2, 1), (1, 0, 2), (1, 2, 0)], True, (3, (-1, -1, -1), (1, 1, 1))]
 '''
 
 
@@ -26,12 +57,12 @@ class Examples(unittest.TestCase):
         self.assertEqual((result.failed, result.attempted), (0, many), "".join(lines))
 
     def test_the_document(self):
-        self.run_all(EXAMPLES, "DOC.md", 6)
+        self.run_all(EXAMPLES, "DOC.md", 22)
 
     def test_the_readme(self):
         readme = Path(__file__).resolve().parent.parent / "README.md"
         text = readme.read_text().replace("```", "")
-        self.run_all(text, "README.md", 10)
+        self.run_all(text, "README.md", 27)
 
 
 if __name__ == "__main__":

@@ -67,6 +67,25 @@ class Language(unittest.TestCase):
                         home = PACKAGE / (node.module.removeprefix("sidebooks.") + ".py")
                         self.assertLessEqual(names, set(bound_names(ast.parse(home.read_text()))[0]))
 
+    def test_no_two_files_import_from_each_other(self):
+        imports = {}
+        for path, tree in TREES:
+            imports[path.stem] = {node.module.removeprefix("sidebooks.") for node in tree.body
+                                  if isinstance(node, ast.ImportFrom) and node.module.startswith("sidebooks.")}
+        while imports:
+            loose = [name for name, needed in imports.items() if not needed & set(imports)]
+            self.assertTrue(loose, imports)
+            for name in loose:
+                del imports[name]
+
+    def test_a_generator_expression_stands_directly_in_a_call(self):
+        for path, tree in TREES:
+            calls = [node for node in ast.walk(tree) if isinstance(node, ast.Call) and isinstance(node.func, ast.Name)]
+            placed = {id(told) for call in calls for told in call.args
+                      if call.func.id in "list tuple dict sorted sum min max any all".split()}
+            every = {id(node) for node in ast.walk(tree) if isinstance(node, ast.GeneratorExp)}
+            self.assertLessEqual(every, placed)
+
     def test_names(self):
         for path, tree in TREES:
             outer, inner = bound_names(tree)
@@ -75,7 +94,7 @@ class Language(unittest.TestCase):
             taken = [node.name for node in tree.body if isinstance(node, ast.ClassDef)]
             taken += [alias.name for node in tree.body if isinstance(node, ast.ImportFrom) for alias in node.names]
             self.assertEqual([name for name in inner if name in taken], [])
-            self.assertNotRegex(path.read_text(), r"\b(_wall|_WallAttr)\b")
+            self.assertNotRegex(path.read_text(), r"\b_(wall|WallAttr|pe_|dcw_|enum_|cm_|lay_|law_|stub_|sre|record)")
 
     def test_builtins(self):
         for path, tree in TREES:
