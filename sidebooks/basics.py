@@ -21,9 +21,16 @@ def is_point(told):
     return isinstance(told, tuple) and len(told) > 0 and all(is_number(x) for x in told)
 
 
+def are_wholes(told):
+    for item in told:
+        if not is_whole(item):
+            return False
+    return True
+
+
 def are_sides(told):
     """True for a tuple of integers that are not all 0."""
-    return isinstance(told, tuple) and all(is_whole(side) for side in told) and any(told)
+    return isinstance(told, tuple) and are_wholes(told) and any(told)
 
 
 def is_question(told):

@@ -13,7 +13,7 @@ def is_book(told):
         return False
     if not all(is_question_of(question, d) for question in questions):
         return False
-    return len({_nought_form(question) for question in questions}) == len(questions)
+    return len({nought_form(question) for question in questions}) == len(questions)
 
 
 def check_book(book):
@@ -38,10 +38,10 @@ def made_book(d, questions):
     seen = set()
     kept = []
     for question in questions:
-        form = _nought_form(question)
+        form = nought_form(question)
         if form not in seen:
             seen.add(form)
-            kept.append(_divided(question))
+            kept.append(divided(question))
     return (d, tuple(kept))
 
 
@@ -89,7 +89,7 @@ def sides_with_walls(book):
     return [sides + (wall,) for sides, wall in book[1]]
 
 
-def _divided(question):
+def divided(question):
     sides, wall = question
     common = common_of(sides + (wall,))
     return (tuple([side // common for side in sides]), wall // common)
@@ -100,9 +100,9 @@ def _turned_question(question):
     return (tuple([-side for side in sides]), -wall)
 
 
-def _nought_form(question):
+def nought_form(question):
     """What just those questions share that have answer 0 at the same points."""
-    sides, wall = _divided(question)
+    sides, wall = divided(question)
     return (sides, wall) if sides[begins_at(sides)] > 0 else _turned_question((sides, wall))
 
 
@@ -110,4 +110,4 @@ def _moved_question(question, point):
     sides, wall = question
     top, bottom = plus(come_to(sides, point), (wall, 1))
     # In lowest terms the bottom is the least integer that makes the wall whole.
-    return _divided((tuple([side * bottom for side in sides]), top))
+    return divided((tuple([side * bottom for side in sides]), top))

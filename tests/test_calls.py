@@ -4,8 +4,10 @@ import copy
 import inspect
 import unittest
 
-from sidebooks import alikes, books, flats, papers, points, polynomials, products, roads, rows
+from sidebooks import (alikes, books, flats, papers, points, polynomials, products, roads, rows, sayings, walks,
+                       webs)
 from sidebooks.errors import BookError
+from tests.lots import LINE, THIRDS
 from tests.samples import BOOKS, FORTY, MORE_BOOKS, SHELF, SPREAD, STRIPES, THREE, no_points
 
 P, Q = ((0, 1), (1, 2)), ((-5, 3), (FORTY, 2))
@@ -26,6 +28,9 @@ LISTED = {
     flats: "flats closure free sign_number flat_of",
     polynomials: "polynomial value merged how_many rows_by_free",
     roads: "steps next_steps roads how_many_roads is_road farthest",
+    walks: "is_lot even_lot shares table behind long_run distance bound enough led",
+    webs: "is_web book_of arrows row_of rounds colourings shelf to_front order_of row_of_order",
+    sayings: "is_saying holds book_for can_hold always parting",
 }
 WISHES = [(THREE, (None, 1, -1)), (THREE, BARRED), (THREE, [None] * 3), (SHELF, (1, None, 0, -1, None, None)),
           (STRIPES, (-1, 1, None)), (SPREAD, (None,) * 5), ((3, ()), ()), ([], ())]
@@ -33,6 +38,18 @@ ROWS = [(THREE, LOW), (THREE, (0, 1, -1)), (THREE, BARRED), (THREE, list(LOW)), 
         (None, LOW)]
 PAIRS = [(THREE, (0, 1, -1), (1, -1, -1)), (THREE, LOW, HIGH), (THREE, BARRED, [1]), (STRIPES, LOW, BARRED),
          (SHELF, (0,) * 6, (1,) * 6), ([], LOW, LOW)]
+LOT = ((LOW, (1, 2)), ((0, 0, -1), (1, 6)), (HIGH, (1, 3)))
+STILL = (((0, 0, -1), (1, 1)),)
+LOTS = [(THREE, LOT), (LINE, THIRDS), (THREE, STILL), (THREE, list(LOT)), (THREE, THIRDS), ((2, ()), (((), (1, 1)),)),
+        ([], LOT)]
+STARTS = [(THREE, LOT, LOW), (THREE, STILL, HIGH), (LINE, THIRDS, (1,)), (THREE, LOT, BARRED), (THREE, LOT, [1]),
+          (THREE, LOT, (0, 1, -1)), (THREE, [LOT], LOW)]
+RING = (4, ((0, 1), (0, 3), (1, 2), (2, 3)))
+WEBS = [(RING,), ((1, ()),), ((3, [(0, 1)]),), ([],)]
+WAYS = [(RING, RING[1]), (RING, ((0, 1), (3, 0), (1, 2), (2, 3))), (RING, [(0, 1)]), ((2, ()), ()), ((2, []), ())]
+LESS = ("less", (1, 0), 1)
+CORNER = ("both", ("is", (2, 1), 3), ("not", ("either", LESS, ("more", (0, -5), 4))))
+SAYINGS = [(2, LESS), (2, CORNER), (2, ("both", LESS, ("more", (1, 0), 1))), (1, LESS), (2, ["not", LESS]), (0, LESS)]
 TWO_BOOKS = [(THREE, THREE), (THREE, STRIPES), (THREE, SHELF), ([], THREE), (THREE, []), ((1, ()), (2, ()))]
 
 # Each function with the names of its arguments, as the interface has them, and some arguments.
@@ -89,6 +106,33 @@ CALLS = [
     (roads.is_road, ("book", "one", "other", "told"),
      [ends + (told,) for ends in ENDS for told in ((0, 1, 2), (2, 2), [0], (), (9,))]),
     (roads.farthest, ("book",), EVERY_BOOK),
+    (walks.is_lot, ("book", "told"), LOTS),
+    (walks.even_lot, ("book", "some"), [(THREE, [HIGH, LOW]), (THREE, (LOW,)), (THREE, [LOW, LOW]), (THREE, []), ([], [])]),
+    (walks.shares, ("book", "lot"), LOTS),
+    (walks.table, ("book", "lot"), LOTS),
+    (walks.behind, ("book", "lot", "row", "n"), [start + (n,) for start in STARTS for n in (0, 3, -1, None)]),
+    (walks.long_run, ("book", "lot"), LOTS),
+    (walks.distance, ("book", "lot", "row", "n"), [start + (n,) for start in STARTS for n in (0, 3, -1)]),
+    (walks.bound, ("book", "lot", "n"), [told + (n,) for told in LOTS for n in (0, 3, True)]),
+    (walks.enough, ("book", "lot", "far"), [told + (far,) for told in LOTS for far in ((1, 9), (3, 1), (0, 1), [1, 2])]),
+    (walks.led, ("book", "lot", "row", "tape"),
+     [start + (tape,) for start in STARTS for tape in ((), ((1, 2), (0, 1)), [(1, 2)], ((1, 1),))]),
+    (webs.is_web, ("told",), WEBS),
+    (webs.book_of, ("web",), WEBS),
+    (webs.arrows, ("web", "row"), [(RING, (-1,) * 4), (RING, (-1, 1, -1, -1)), (RING, (0,) * 4), (RING, [1]), ([], ())]),
+    (webs.row_of, ("web", "told"), WAYS),
+    (webs.rounds, ("web", "told"), WAYS),
+    (webs.colourings, ("web", "k"), [(RING, 3), (RING, 0), (RING, -1), ((1, ()), 100), ([], 3)]),
+    (webs.shelf, ("n",), [(1,), (4,), (0,), ("4",)]),
+    (webs.to_front, ("n", "i"), [(1, 0), (4, 2), (4, 4), (0, 0)]),
+    (webs.order_of, ("n", "row"), [(3, (1, 0, -1)), (3, (-1, 1, -1)), (3, [1]), (1, ()), (True, ())]),
+    (webs.row_of_order, ("n", "order"), [(3, ((1,), (0, 2))), (3, ((1,), (2, 0))), (3, [(0, 1, 2)]), (0, ())]),
+    (sayings.is_saying, ("d", "told"), SAYINGS),
+    (sayings.holds, ("d", "saying", "point"), [told + (point,) for told in SAYINGS for point in (P, Q, [P])]),
+    (sayings.book_for, ("d", "saying"), SAYINGS),
+    (sayings.can_hold, ("d", "saying"), SAYINGS),
+    (sayings.always, ("d", "saying"), SAYINGS),
+    (sayings.parting, ("d", "one", "other"), [told + (other,) for told in SAYINGS for other in (LESS, CORNER, [LESS])]),
 ]
 EVERY_CALL = [(call, told) for call, _, some in CALLS for told in some]
 
@@ -133,7 +177,8 @@ class Calls(unittest.TestCase):
         again = [outcome(call, *told) for call, told in EVERY_CALL[::-1]][::-1]
         self.assertEqual(first, again)
         kinds = """answer InvalidBook InvalidQuestion InvalidIndex InvalidPoint InvalidWish InvalidNumber InvalidRow
-            InvalidPaper InvalidPair NeverComes NotFull""".split()
+            InvalidPaper InvalidPair NeverComes NotFull InvalidLot InvalidTape InvalidWeb InvalidSaying NoLongRun
+            HasRound""".split()
         self.assertEqual({kind for kind, _ in first}, set(kinds))
 
     def test_lists_are_new(self):

@@ -46,6 +46,21 @@ EXAMPLES = '''
 >>> from sidebooks.roads import farthest, is_road, roads
 >>> [roads(three, (-1, -1, -1), (1, 1, 1)), is_road(three, (1, 1, -1), (1, 1, 1), (0, 2, 0)), farthest(three)]
 [[(0, 1, 2), (0, 2, 1), (1, 0, 2), (1, 2, 0)], True, (3, (-1, -1, -1), (1, 1, 1))]
+
+>>> from sidebooks.walks import bound, even_lot, led, long_run, shares, table
+>>> line = (1, (((1,), 0),))
+>>> lot = (((-1,), (1, 3)), ((0,), (1, 3)), ((1,), (1, 3)))
+>>> [shares(line, lot), table(line, lot), long_run(line, lot), bound(line, lot, 2), led(line, lot, (1,), ((0, 1), (1, 2)))]
+[[((), (1, 1), 1), ((0,), (1, 3), 1)], (((2, 3), (1, 3)), ((1, 3), (2, 3))), ((1, 2), (1, 2)), (1, 9), ((-1,), (-1,))]
+
+>>> from sidebooks.webs import arrows, book_of, colourings, order_of, row_of_order, shelf, to_front
+>>> [shelf(3), colourings(shelf(3), 4), to_front(3, 1), order_of(3, (1, 0, -1)), row_of_order(3, ((1,), (0, 2))), arrows(shelf(2), (1,))]
+[(3, ((0, 1), (0, 2), (1, 2))), 24, (1, 0, -1), ((1,), (0, 2)), (1, 0, -1), ((1, 0),)]
+
+>>> from sidebooks.sayings import always, can_hold, holds, parting
+>>> left = ("less", (1, 0), 1)
+>>> [holds(2, left, ((0, 1), (5, 1))), can_hold(2, ("both", left, ("more", (1, 0), 1))), parting(2, left, ("less", (2, 0), 2))]
+[True, None, None]
 '''
 
 
@@ -57,12 +72,12 @@ class Examples(unittest.TestCase):
         self.assertEqual((result.failed, result.attempted), (0, many), "".join(lines))
 
     def test_the_document(self):
-        self.run_all(EXAMPLES, "DOC.md", 22)
+        self.run_all(EXAMPLES, "DOC.md", 31)
 
     def test_the_readme(self):
         readme = Path(__file__).resolve().parent.parent / "README.md"
         text = readme.read_text().replace("```", "")
-        self.run_all(text, "README.md", 27)
+        self.run_all(text, "README.md", 36)
 
 
 if __name__ == "__main__":
