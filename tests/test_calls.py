@@ -4,8 +4,9 @@ import copy
 import inspect
 import unittest
 
-from sidebooks import (alikes, books, flats, papers, points, polynomials, products, roads, rows, sayings, walks,
-                       webs)
+from sidebooks import (alikes, books, drawings, flats, papers, points, polynomials, products, readers, roads, rows,
+                       sayings, texts, walks, webs)
+from sidebooks.consoles import Console
 from sidebooks.errors import BookError
 from tests.lots import LINE, THIRDS
 from tests.samples import BOOKS, FORTY, MORE_BOOKS, SHELF, SPREAD, STRIPES, THREE, no_points
@@ -31,7 +32,11 @@ LISTED = {
     walks: "is_lot even_lot shares table behind long_run distance bound enough led",
     webs: "is_web book_of arrows row_of rounds colourings shelf to_front order_of row_of_order",
     sayings: "is_saying holds book_for can_hold always parting",
+    drawings: "drawn",
+    texts: "show_number show_point show_row show_wish show_question show_book show_saying",
+    readers: "read_number read_point read_row read_wish read_book read_saying",
 }
+METHODS = {"keep": ["name", "book"], "drop": ["name"], "undo": [], "book": ["name"], "names": [], "order": ["text"]}
 WISHES = [(THREE, (None, 1, -1)), (THREE, BARRED), (THREE, [None] * 3), (SHELF, (1, None, 0, -1, None, None)),
           (STRIPES, (-1, 1, None)), (SPREAD, (None,) * 5), ((3, ()), ()), ([], ())]
 ROWS = [(THREE, LOW), (THREE, (0, 1, -1)), (THREE, BARRED), (THREE, list(LOW)), (SHELF, (-1,) * 6), ((2, ()), ()),
@@ -133,6 +138,21 @@ CALLS = [
     (sayings.can_hold, ("d", "saying"), SAYINGS),
     (sayings.always, ("d", "saying"), SAYINGS),
     (sayings.parting, ("d", "one", "other"), [told + (other,) for told in SAYINGS for other in (LESS, CORNER, [LESS])]),
+    (drawings.drawn, ("book", "left", "low", "wide", "high", "size"),
+     [(THREE, -1, -1, 4, 4, 1), (STRIPES, 0, -3, 5, 2, 3), (LINE, 0, 0, 1, 1, 1), (THREE, None, 0, 1, 1, 0), ([], 0, 0, 0, 0, 1)]),
+    (texts.show_number, ("a",), [((1, 2),), ((-3, 1),), ((FORTY, 2),)]),
+    (texts.show_point, ("point",), [(P,), (Q,)]),
+    (texts.show_row, ("row",), [(LOW,), ((),), ((1, 0, -1),)]),
+    (texts.show_wish, ("wish",), [((None, 1),), ((),), (HIGH,)]),
+    (texts.show_question, ("question",), [(QUESTIONS[0],), (((FORTY,), -1),)]),
+    (texts.show_book, ("book",), [(THREE,), (SHELF,), ((3, ()),)]),
+    (texts.show_saying, ("saying",), [(LESS,), (CORNER,)]),
+    (readers.read_number, ("text",), [("1/2",), ("2/4",), ("1\n",), ("",)]),
+    (readers.read_point, ("text",), [("1/2 0",), ("1  2",), ("1 2\n3",)]),
+    (readers.read_row, ("text",), [(".",), ("+0-",), ("+?-",), ("+\n",)]),
+    (readers.read_wish, ("text",), [(".",), ("+?-",), ("x",)]),
+    (readers.read_book, ("text",), [("book 2\n1 0 : 0",), ("book 1\n0 : 0",), ("book 1\n",), ("",)]),
+    (readers.read_saying, ("text",), [("(not (less [1 0] 1))",), ("(not (less [1 0] 1)",), ("(is [0] 0)\n",)]),
 ]
 EVERY_CALL = [(call, told) for call, _, some in CALLS for told in some]
 
@@ -153,6 +173,13 @@ class Calls(unittest.TestCase):
                 self.assertIs(getattr(home, call.__name__), call)
                 self.assertEqual(tuple(inspect.signature(call).parameters), names)
         self.assertEqual(len(CALLS), sum(len(text.split()) for text in LISTED.values()))
+
+    def test_methods_stand_in_their_class(self):
+        self.assertEqual(Console.__module__, "sidebooks.consoles")
+        self.assertEqual(list(inspect.signature(Console).parameters), [])
+        for name, names in METHODS.items():
+            self.assertIn(name, vars(Console))
+            self.assertEqual(list(inspect.signature(getattr(Console(), name)).parameters), names)
 
     def test_by_name(self):
         for call, names, some in CALLS:
@@ -178,7 +205,7 @@ class Calls(unittest.TestCase):
         self.assertEqual(first, again)
         kinds = """answer InvalidBook InvalidQuestion InvalidIndex InvalidPoint InvalidWish InvalidNumber InvalidRow
             InvalidPaper InvalidPair NeverComes NotFull InvalidLot InvalidTape InvalidWeb InvalidSaying NoLongRun
-            HasRound""".split()
+            HasRound Unreadable""".split()
         self.assertEqual({kind for kind, _ in first}, set(kinds))
 
     def test_lists_are_new(self):
@@ -195,7 +222,7 @@ class Calls(unittest.TestCase):
                 self.assertIsNot(again, answer)
                 answer.append("else")
                 self.assertEqual(again, before)
-                self.assertFalse([item for item in again if not isinstance(item, tuple)])
+                self.assertFalse([item for item in again if not isinstance(item, (tuple, str))])
 
     def test_a_changed_list_does_not_change_the_book(self):
         told = list(QUESTIONS)

@@ -61,6 +61,14 @@ EXAMPLES = '''
 >>> left = ("less", (1, 0), 1)
 >>> [holds(2, left, ((0, 1), (5, 1))), can_hold(2, ("both", left, ("more", (1, 0), 1))), parting(2, left, ("less", (2, 0), 2))]
 [True, None, None]
+
+>>> from sidebooks.drawings import drawn
+>>> drawn(three, -1, -1, 4, 4, 1)
+['..gg', 'b.gg', '....', 'a.d.']
+
+>>> from sidebooks.texts import show_book, show_row, show_saying, show_wish
+>>> [show_book(line), show_row((1, 0, -1)), show_wish((None, 1)), show_saying(("not", left))]
+['book 1\\n1 : 0', '+0-', '?+', '(not (less [1 0] 1))']
 '''
 
 
@@ -72,12 +80,12 @@ class Examples(unittest.TestCase):
         self.assertEqual((result.failed, result.attempted), (0, many), "".join(lines))
 
     def test_the_document(self):
-        self.run_all(EXAMPLES, "DOC.md", 31)
+        self.run_all(EXAMPLES, "DOC.md", 35)
 
     def test_the_readme(self):
         readme = Path(__file__).resolve().parent.parent / "README.md"
         text = readme.read_text().replace("```", "")
-        self.run_all(text, "README.md", 36)
+        self.run_all(text, "README.md", 49)
 
 
 if __name__ == "__main__":
