@@ -17,8 +17,15 @@ def is_number(told):
     return is_whole(top) and is_whole(bottom) and bottom > 0 and gcd(top, bottom) == 1
 
 
+def are_numbers(told):
+    for item in told:
+        if not is_number(item):
+            return False
+    return True
+
+
 def is_point(told):
-    return isinstance(told, tuple) and len(told) > 0 and all(is_number(x) for x in told)
+    return isinstance(told, tuple) and len(told) > 0 and are_numbers(told)
 
 
 def are_wholes(told):
@@ -53,12 +60,15 @@ def is_wish_of(told, many):
     """True for a wish of a book of so many questions."""
     if not isinstance(told, tuple) or len(told) != many:
         return False
-    return all(item is None or is_answer(item) for item in told)
+    for item in told:
+        if item is not None and not is_answer(item):
+            return False
+    return True
 
 
 def is_row_of(told, many):
     """True for a row of a book of so many questions, whether it comes or not."""
-    return isinstance(told, tuple) and len(told) == many and all(is_answer(item) for item in told)
+    return is_wish_of(told, many) and None not in told
 
 
 def is_index(told, many):
@@ -120,10 +130,37 @@ def is_less(a, b):
 
 def come_to(sides, point):
     """The sum of the sides, or of other integers, each times the point's number."""
-    gathered = (0, 1)
-    for side, x in zip(sides, point):
-        gathered = plus(gathered, times((side, 1), x))
-    return gathered
+    top, bottom = _sum_at(sides, point)
+    return lowest(top, bottom)
+
+
+def answer_at(question, point):
+    sides, wall = question
+    top, bottom = _sum_at(sides, point)
+    return sign(top - wall * bottom)
+
+
+def _sum_at(sides, point):
+    """Top and bottom of what sides come to at a point, not divided."""
+    top, bottom = 0, 1
+    for side, (above, below) in zip(sides, point):
+        top, bottom = top * below + side * above * bottom, bottom * below
+    return (top, bottom)
+
+
+def with_answer(wish, index, answer):
+    """A row or wish with another answer for one question."""
+    return wish[:index] + (answer,) + wish[index + 1:]
+
+
+def zeros_of(row):
+    """The tuple of the indexes at which a row has 0."""
+    return tuple([index for index, answer in enumerate(row) if answer == 0])
+
+
+def parts_of(one, other):
+    """The ascending tuple of the indexes at which one of two rows has -1 and the other 1."""
+    return tuple([index for index, (first, second) in enumerate(zip(one, other)) if first * second < 0])
 
 
 def common_of(wholes):
@@ -140,6 +177,14 @@ def begins_at(wholes):
     while wholes[at] == 0:
         at += 1
     return at
+
+
+def normal_form(wholes):
+    """Integers that are not all 0, divided by what divides all, and turned so that the first but 0 is above 0."""
+    common = common_of(wholes)
+    if wholes[begins_at(wholes)] < 0:
+        common = -common
+    return tuple(wholes) if common == 1 else tuple([whole // common for whole in wholes])
 
 
 def rank_of(rows):

@@ -1,7 +1,7 @@
 """Books of questions, and what is made of them."""
 
-from sidebooks.basics import begins_at, check_index, check_point, come_to, common_of
-from sidebooks.basics import is_question_of, is_whole, plus, rank_of
+from sidebooks.basics import check_index, check_point, come_to, common_of
+from sidebooks.basics import is_question_of, is_whole, normal_form, plus, rank_of
 from sidebooks.errors import InvalidBook, InvalidQuestion
 
 
@@ -11,8 +11,9 @@ def is_book(told):
     d, questions = told
     if not _is_many(d) or not isinstance(questions, tuple):
         return False
-    if not all(is_question_of(question, d) for question in questions):
-        return False
+    for question in questions:
+        if not is_question_of(question, d):
+            return False
     return len({nought_form(question) for question in questions}) == len(questions)
 
 
@@ -102,8 +103,8 @@ def _turned_question(question):
 
 def nought_form(question):
     """What just those questions share that have answer 0 at the same points."""
-    sides, wall = divided(question)
-    return (sides, wall) if sides[begins_at(sides)] > 0 else _turned_question((sides, wall))
+    sides, wall = question
+    return normal_form(sides + (wall,))
 
 
 def _moved_question(question, point):

@@ -1,6 +1,6 @@
 """Drawings of books of two unknowns: a letter for each full row."""
 
-from sidebooks.balances import bars, rows_by
+from sidebooks.balances import full_rows_of
 from sidebooks.basics import is_whole, sign
 from sidebooks.books import check_book
 from sidebooks.errors import InvalidBook, InvalidNumber
@@ -14,8 +14,7 @@ def drawn(book, left, low, wide, high, size):
     if book[0] != 2:
         raise InvalidBook(book)
     _check_frame(left, low, wide, high, size)
-    full = rows_by(bars(book), len(book[1]), (-1, 1))
-    letters = {row: LETTERS[place] for place, row in enumerate(full)}
+    letters = {row: LETTERS[place] for place, row in enumerate(full_rows_of(book))}
     # All is taken times the size, so that it stays whole.
     across = [left * size + i for i in range(wide)]
     up = [low * size + j for j in range(high)]

@@ -1,7 +1,7 @@
 """Points, the answers that books give at them, and what lies between two of them."""
 
-from sidebooks.basics import check_point, check_wish, come_to, is_number, is_point, is_question
-from sidebooks.basics import minus, plus, sign, times
+from sidebooks.basics import answer_at, check_point, check_wish, is_number, is_point, is_question
+from sidebooks.basics import minus, plus, times
 from sidebooks.books import check_book
 from sidebooks.errors import InvalidNumber, InvalidPoint, InvalidQuestion
 
@@ -10,7 +10,7 @@ def answer(question, point):
     if not is_question(question):
         raise InvalidQuestion(question)
     check_point(point, len(question[0]))
-    return _answer_at(question, point)
+    return answer_at(question, point)
 
 
 def row_of(book, point):
@@ -48,10 +48,5 @@ def put_ahead(one, other):
     return tuple([first if first != 0 else second for first, second in zip(one, other)])
 
 
-def _answer_at(question, point):
-    sides, wall = question
-    return sign(minus(come_to(sides, point), (wall, 1))[0])
-
-
 def _row_at(book, point):
-    return tuple([_answer_at(question, point) for question in book[1]])
+    return tuple([answer_at(question, point) for question in book[1]])

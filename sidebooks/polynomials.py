@@ -3,7 +3,7 @@
 from sidebooks.basics import check_index, is_whole, rank_of
 from sidebooks.books import all_sides, check_book, made_book
 from sidebooks.errors import InvalidBook, InvalidNumber
-from sidebooks.flats import flats, free_of, sign_numbers
+from sidebooks.flats import graded_flats, signs_above
 
 
 def polynomial(book):
@@ -26,7 +26,8 @@ def merged(book, index):
         raise InvalidBook(book)
     check_index(index, len(questions))
     others = questions[:index] + questions[index + 1:]
-    return _book_with_sides(d - 1, _merged_questions(others, questions[index]))
+    left = _merged_questions(others, questions[index])
+    return made_book(d - 1, [question for question in left if any(question[0])])
 
 
 def how_many(book):
@@ -40,17 +41,24 @@ def how_many(book):
 def rows_by_free(book):
     check_book(book)
     counts = [0] * (book[0] + 1)
-    # The rows with 0 at just the questions of a flat are the full ones of the book on that flat.
-    for flat in flats(book):
-        left = free_of(book, flat)
-        counts[left] += 1 if left == 0 else _size_at(_polynomial_of(_book_on(book, flat)), -1)
+    graded = graded_flats(book)
+    # The rows with 0 at just the questions of a flat are the full ones of the book merged by these.
+    for bits, left in graded:
+        counts[left] += _size_at(_polynomial_above(graded, bits), -1)
     return tuple(counts)
 
 
 def _polynomial_of(book):
-    told = [0] * (book[0] + 1)
-    for flat, number in sign_numbers(book):
-        told[book[0] - free_of(book, flat)] += number
+    return _polynomial_above(graded_flats(book), 0)
+
+
+def _polynomial_above(graded, low):
+    """The polynomial of the book merged by the questions of a low flat: its flats are those above this one."""
+    signs = signs_above(graded, low)
+    most = signs[0][1]
+    told = [0] * (most + 1)
+    for _, left, number in signs:
+        told[most - left] += number
     return tuple(told)
 
 
@@ -80,19 +88,3 @@ def _merged_questions(questions, by):
         left = [size * other - share * side for other, side in zip(others, sides)]
         found.append((tuple(left[:last] + left[last + 1:]), size * other_wall - share * wall))
     return found
-
-
-def _book_with_sides(d, questions):
-    return made_book(d, [question for question in questions if any(question[0])])
-
-
-def _book_on(book, flat):
-    """The book merged by the questions of a flat that leaves an unknown free, one behind the other."""
-    d, questions = book
-    for index in flat:
-        by = questions[index]
-        # Those before it may have taken all of its sides; then it asks nothing more.
-        if any(by[0]):
-            questions = _merged_questions(questions, by)
-            d = d - 1
-    return _book_with_sides(d, questions)

@@ -1,10 +1,11 @@
 """Rows put together."""
 
-from sidebooks.balances import ANSWERS, bars, check_comes, parts_of, rows_by
-from sidebooks.basics import check_row
+from sidebooks.balances import ANSWERS, bars, rows_by
+from sidebooks.basics import check_row, parts_of
 from sidebooks.books import check_book
 from sidebooks.errors import InvalidRow
 from sidebooks.points import put_ahead
+from sidebooks.trials import check_comes
 
 
 def ahead(book, one, other):
@@ -21,7 +22,7 @@ def ahead_all(book, some):
     for row in some:
         gathered = put_ahead(gathered, row)
     if not some:
-        check_comes(bars(book), gathered)
+        check_comes(book, gathered)
     return gathered
 
 
@@ -37,7 +38,7 @@ def is_under(book, one, other):
 
 def above(book, row):
     _check_rows(book, (row,))
-    return [found for found in rows_by(bars(book), len(row), ANSWERS) if put_ahead(row, found) == found]
+    return rows_by(bars(book), [ANSWERS if answer == 0 else (answer,) for answer in row])
 
 
 def _check_rows(book, some):
@@ -45,6 +46,5 @@ def _check_rows(book, some):
     check_book(book)
     for row in some:
         check_row(row, len(book[1]))
-    known = bars(book)
     for row in some:
-        check_comes(known, row)
+        check_comes(book, row)

@@ -1,7 +1,7 @@
 """Sayings about what sides come to, and points at which they hold."""
 
-from sidebooks.balances import ANSWERS, bars, rows_by
-from sidebooks.basics import are_wholes, check_point, come_to, is_whole, minus, sign
+from sidebooks.balances import all_rows_of
+from sidebooks.basics import answer_at, are_wholes, check_point, is_whole, sign
 from sidebooks.books import divided, made_book, nought_form
 from sidebooks.errors import InvalidNumber, InvalidSaying
 from sidebooks.witnesses import point_that_fits
@@ -74,7 +74,7 @@ def _are_sides_of(d, told):
 def _holds_at(saying, point):
     word = saying[0]
     if word in ASKED:
-        return sign(minus(come_to(saying[1], point), (saying[2], 1))[0]) == ASKED[word]
+        return answer_at((saying[1], saying[2]), point) == ASKED[word]
     if word == "not":
         return not _holds_at(saying[1], point)
     if word == "both":
@@ -92,7 +92,7 @@ def _questions_in(saying):
 def _point_where(d, saying):
     """A point at which a saying holds, `None` if there is none."""
     book = made_book(d, _questions_in(saying))
-    found = rows_by(bars(book), len(book[1]), ANSWERS)
+    found = all_rows_of(book)
     indexes = {nought_form(question): index for index, question in enumerate(book[1])}
     marks = _marks_of(saying, book, found, indexes)
     if marks == 0:

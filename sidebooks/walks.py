@@ -2,10 +2,10 @@
 
 from math import lcm
 
-from sidebooks.balances import bars, check_comes, comes_by, rows_by
+from sidebooks.balances import FULL_ANSWERS, bars, code_of, comes_by, rows_by
 from sidebooks.basics import check_row, is_less, is_number, is_row_of, is_whole, lowest, minus, plus, times
 from sidebooks.books import check_book
-from sidebooks.errors import InvalidLot, InvalidNumber, InvalidTape, NoLongRun, NotFull
+from sidebooks.errors import InvalidLot, InvalidNumber, InvalidTape, NeverComes, NoLongRun, NotFull
 from sidebooks.flats import sign_numbers
 from sidebooks.points import put_ahead
 
@@ -115,7 +115,7 @@ def _come_once(some, known, many):
     """True for rows that come, each once, one or more."""
     if not some or not all(is_row_of(row, many) for row in some):
         return False
-    return len(set(some)) == len(some) and all(comes_by(known, row) for row in some)
+    return len(set(some)) == len(some) and all([comes_by(known, code_of(row)) for row in some])
 
 
 def _check_lot(book, lot):
@@ -131,7 +131,8 @@ def _check_start(book, lot, row):
     """The bars of the book, if a walk by the lot can go from the row."""
     known = _check_lot(book, lot)
     check_row(row, len(book[1]))
-    check_comes(known, row)
+    if not comes_by(known, code_of(row)):
+        raise NeverComes(row)
     if 0 in row:
         raise NotFull(row)
     return known
@@ -153,7 +154,7 @@ def _is_draw(told):
 
 
 def _full_by(known, book):
-    return rows_by(known, len(book[1]), (-1, 1))
+    return rows_by(known, [FULL_ANSWERS] * len(book[1]))
 
 
 def _share_of(lot, flat):

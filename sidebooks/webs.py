@@ -1,9 +1,9 @@
 """Webs of things and ties, their books, directions and colourings, and the shelf of all orders."""
 
-from sidebooks.balances import bars, check_comes
 from sidebooks.basics import check_index, check_row, is_whole, sign
 from sidebooks.errors import HasRound, InvalidNumber, InvalidPair, InvalidWeb, NeverComes, NotFull
 from sidebooks.polynomials import polynomial, value
+from sidebooks.trials import check_comes
 
 
 def is_web(told):
@@ -25,7 +25,7 @@ def book_of(web):
 def arrows(web, row):
     _check_web(web)
     check_row(row, len(web[1]))
-    check_comes(bars(_book_of(web)), row)
+    check_comes(_book_of(web), row)
     if 0 in row:
         raise NotFull(row)
     return tuple([(i, j) if answer < 0 else (j, i) for (i, j), answer in zip(web[1], row)])

@@ -19,18 +19,17 @@ def point_that_fits(book, wish):
 def _bounds(asked, unknowns):
     """What the first unknown has to be: (more than, just, less than), each a number or `None`.
 
-    A balance of this unknown with some questions tells it by what they are to come
-    to; these bounds are all, since no other bar could be against a number of it.
+    A balance of what the questions have of all other unknowns leaves of their sides a
+    multiple of this one; these bounds are all, since no other bar could be against a
+    number of it.
     """
     low = just = high = None
-    first = (1,) + (0,) * (unknowns - 1)
-    for indexes, factors in balances([first] + [sides for sides, _, _ in asked]):
-        if indexes[0] != 0:
+    vectors = [sides[1:] + (sides[0], wall) for sides, wall, _ in asked]
+    for indexes, factors, (side, total) in balances(vectors, unknowns - 1):
+        if side == 0:
             continue
-        weights = [(factor, asked[index - 1]) for index, factor in zip(indexes[1:], factors[1:])]
-        senses = [sign(-factors[0] * factor * wished) for factor, (_, _, wished) in weights]
-        total = sum([factor * wall for factor, (_, wall, _) in weights])
-        bound = lowest(-sign(factors[0]) * total, abs(factors[0]))
+        senses = [sign(side * factor * asked[index][2]) for index, factor in zip(indexes, factors)]
+        bound = lowest(sign(side) * total, abs(side))
         if not any(senses):
             just = bound
         elif min(senses) >= 0:

@@ -43,7 +43,8 @@ def lots_of(book):
 WALKED = [LINE, THREE, CROSS, STAR, STRIPES, CORNER, SHELF, BOOKS[0], BOOKS[3], BOOKS[4], BOOKS[8], (3, ())]
 WALKED += WEB_BOOKS[:4]
 WALKS = [(book, lot) for book in WALKED for lot in lots_of(book)]
-WALKS += [(LINE, THIRDS), (SHELF, even(to_fronts(4))), (SHELF, uneven(to_fronts(4))), (WEB_BOOKS[2], even(to_fronts(3)))]
+WALKS += [(LINE, THIRDS), (SHELF, even(to_fronts(4))), (SHELF, uneven(to_fronts(4))),
+          (WEB_BOOKS[2], even(to_fronts(3)))]
 
 
 def idle(book, lot):

@@ -13,8 +13,9 @@ from sidebooks.texts import show_book, show_point, show_row, show_wish
 from tests.oracle import all_full, all_rows
 from tests.samples import (BOOKS, CORNER, CROSS, FORTY, MORE_BOOKS, SHELF, STAR, STRIPES, THREE, no_books, points_of)
 
-NO_NAMES = [None, True, 7, 0, "", " ", "A", "Three", "ninechars", "abcdefghi", "a1", "1", "a b", "a ", " a", "a-b", "a.", "a\n",
-            "\n", "\u00e4", "\u03b1", b"a", ("a",), ["a"], [], {}, {"a": 1}, object(), 1.0, "undo!", "thr_e"]
+NO_NAMES = [None, True, 7, 0, "", " ", "A", "Three", "ninechars", "abcdefghi", "a1", "1", "a b", "a ", " a", "a-b",
+            "a.", "a\n", "\n", "\u00e4", "\u03b1", b"a", ("a",), ["a"], [], {}, {"a": 1}, object(), 1.0, "undo!",
+            "thr_e"]
 NAMES = ["a", "z", "three", "book", "undo", "abcdefgh", "names"]
 SHOWN = "book 2\n1 0 : 0\n0 1 : 0\n1 1 : 1"
 
@@ -216,17 +217,19 @@ class Orders(Trying):
     def test_told(self):
         console = Console()
         told = [("names", "none"), ("book three\n" + SHOWN, "done"), ("names", "three"), ("show three", SHOWN),
-                ("row three 0 1/2", "0+-"), ("comes three --+", "no"), ("comes three 0?-", "yes"), ("comes three ???", "yes"),
-                ("first three 0??", "0--"), ("first three --+", "no"), ("first three +++", "+++"), ("count three", "7 1"),
-                ("polynomial three", "1 -3 3"), ("steps three --- +++", "3"), ("roads three --- +++", "4"),
-                ("walls three ++-", "0 1 2"), ("steps three +++ +++", "0"), ("roads three +++ +++", "1"),
-                ("without two three 2", "done"), ("show two", "book 2\n1 0 : 0\n0 1 : 0"), ("turned three three 1", "done"),
+                ("row three 0 1/2", "0+-"), ("comes three --+", "no"), ("comes three 0?-", "yes"),
+                ("comes three ???", "yes"), ("first three 0??", "0--"), ("first three --+", "no"),
+                ("first three +++", "+++"), ("count three", "7 1"), ("polynomial three", "1 -3 3"),
+                ("steps three --- +++", "3"), ("roads three --- +++", "4"), ("walls three ++-", "0 1 2"),
+                ("steps three +++ +++", "0"), ("roads three +++ +++", "1"), ("without two three 2", "done"),
+                ("show two", "book 2\n1 0 : 0\n0 1 : 0"), ("turned three three 1", "done"),
                 ("show three", "book 2\n1 0 : 0\n0 -1 : 0\n1 1 : 1"), ("merged m three 2", "done"),
                 ("show m", "book 1\n1 : 0\n1 : 1"), ("names", "m\nthree\ntwo"), ("undo", "done"), ("undo", "done"),
-                ("show three", SHOWN), ("drop three", "done"), ("names", "two"), ("undo", "done"), ("names", "three\ntwo"),
-                ("book none\nbook 3", "done"), ("walls none .", "none"), ("row none 1 2/3 -4", "."), ("comes none .", "yes"),
-                ("paper none .", "no"), ("first none .", "."), ("count none", "1 0"), ("polynomial none", "1 0 0 0"),
-                ("show none", "book 3"), ("steps none . .", "0"), ("roads none . .", "1"), ("paper three +++", "no")]
+                ("show three", SHOWN), ("drop three", "done"), ("names", "two"), ("undo", "done"),
+                ("names", "three\ntwo"), ("book none\nbook 3", "done"), ("walls none .", "none"),
+                ("row none 1 2/3 -4", "."), ("comes none .", "yes"), ("paper none .", "no"), ("first none .", "."),
+                ("count none", "1 0"), ("polynomial none", "1 0 0 0"), ("show none", "book 3"),
+                ("steps none . .", "0"), ("roads none . .", "1"), ("paper three +++", "no")]
         for text, answer in told:
             found = console.order(text)
             self.assertEqual(found, answer, text)
@@ -241,7 +244,8 @@ class Orders(Trying):
             full, every = all_full(book), all_rows(book)
             self.assertEqual(console.order("count b"), "{} {}".format(*polynomials.how_many(book)))
             self.assertEqual(console.order("polynomial b"), " ".join(str(x) for x in polynomials.polynomial(book)))
-            for point in [point for point in points_of(book[0], 20) if all(abs(x) < FORTY // 9 for a in point for x in a)]:
+            for point in [point for point in points_of(book[0], 20)
+                          if all(abs(x) < FORTY // 9 for a in point for x in a)]:
                 self.assertEqual(console.order("row b " + show_point(point)), show_row(points.row_of(book, point)))
             for row in full[::3]:
                 answer = console.order("walls b " + show_row(row))
@@ -278,8 +282,9 @@ class Orders(Trying):
     def test_unknown_names(self):
         console = self.filled()
         before = self.state(console)
-        for text in ("show x", "row x 0", "comes x ?", "paper x ?", "first x ?", "count x", "polynomial x", "steps x + +",
-                     "roads x + +", "walls x +", "drop x", "without a x 0", "turned three x -1", "merged x x 999"):
+        for text in ("show x", "row x 0", "comes x ?", "paper x ?", "first x ?", "count x", "polynomial x",
+                     "steps x + +", "roads x + +", "walls x +", "drop x", "without a x 0", "turned three x -1",
+                     "merged x x 999"):
             self.refused(UnknownName, "x", console.order, text)
         self.assertEqual(self.state(console), before)
 
@@ -288,7 +293,8 @@ class Orders(Trying):
         before = self.state(console)
         for lines, n in (("", 1), ("\n", 1), ("book", 1), ("1 : 0", 1), ("book 2\n", 2), ("book 2\n1 0 : 0\nx", 3),
                          ("book 2\n1 0 : 0\n\n0 1 : 0", 3), (SHOWN + "\n", 5), ("book 0", 0), ("book 2\n1 : 0", 0),
-                         ("book 1\n1 : 0\n2 : 0", 0), (" " + SHOWN, 1), ("book 1\n1 : 1/2", 2), ("book a\n" + SHOWN, 1)):
+                         ("book 1\n1 : 0\n2 : 0", 0), (" " + SHOWN, 1), ("book 1\n1 : 1/2", 2),
+                         ("book a\n" + SHOWN, 1)):
             self.refused(Unreadable, n, console.order, "book three\n" + lines)
             self.refused(Unreadable, n, console.order, "book new\n" + lines)
         self.assertEqual(self.state(console), before)
@@ -314,22 +320,25 @@ class Orders(Trying):
     def test_no_orders(self):
         console = self.filled()
         before = self.state(console)
-        wrong = ["", " ", "\n", "nonsense", "three", "Show three", "SHOW three", "shows three", "show", "show ", "show  three",
-                 " show three", "show three ", "show three cross", "show Three", "show thr33", "show ninechars", "show three\n",
-                 "show\tthree", "book", "book ", "book three", "book Three\n" + SHOWN, "book three x\n" + SHOWN,
-                 "book ninechars\n" + SHOWN, "book  three\n" + SHOWN, "book\n" + SHOWN, "book 2", SHOWN, "undo three", "undo ",
-                 "undo\n", "names ", "names three", "names\n", "names\nnames", "drop", "drop ", "drop three cross", "drop THREE",
-                 "without a three", "without a three ", "without a three x", "without a three 0 0", "without three 0",
-                 "without a  three 0", "without A three 0", "without a three 00", "without a three -0", "without a three +1",
-                 "without a three 1/2", "without a three 1000000000", "without a 0 three", "turned a three", "merged a three",
-                 "merged a three 0\n", "turned a three one", "row three", "row three ", "row three 0  0", "row three 0 0 ",
-                 "row three 2/4 0", "row three 0 01", "row three 0,0", "row 0 0", "row three +0", "row three 0 0\n0 0",
-                 "comes three", "comes three ", "comes three --x", "comes three ? ?", "comes three ???\n", "comes three (?)",
-                 "paper three", "paper three 1", "first three", "first three ?*?", "count", "count three x", "count three\n",
-                 "polynomial three 2", "polynomial", "steps three ---", "steps three --- --- ---", "steps three --- --?",
-                 "steps three --? ---", "roads three", "roads three ---+++", "roads three --- ", "walls three", "walls three ?--",
-                 "walls three --- +++", "walls --- three", "count three\ncount three", "value three", "rows three", "keep a",
-                 "help", "names;", "undo undo", "?", "show  ", "row three 0 0 : 1", "walls three ---\n"]
+        wrong = ["", " ", "\n", "nonsense", "three", "Show three", "SHOW three", "shows three", "show", "show ",
+                 "show  three", " show three", "show three ", "show three cross", "show Three", "show thr33",
+                 "show ninechars", "show three\n", "show\tthree", "book", "book ", "book three",
+                 "book Three\n" + SHOWN, "book three x\n" + SHOWN, "book ninechars\n" + SHOWN, "book  three\n" + SHOWN,
+                 "book\n" + SHOWN, "book 2", SHOWN, "undo three", "undo ", "undo\n", "names ", "names three",
+                 "names\n", "names\nnames", "drop", "drop ", "drop three cross", "drop THREE", "without a three",
+                 "without a three ", "without a three x", "without a three 0 0", "without three 0",
+                 "without a  three 0", "without A three 0", "without a three 00", "without a three -0",
+                 "without a three +1", "without a three 1/2", "without a three 1000000000", "without a 0 three",
+                 "turned a three", "merged a three", "merged a three 0\n", "turned a three one", "row three",
+                 "row three ", "row three 0  0", "row three 0 0 ", "row three 2/4 0", "row three 0 01",
+                 "row three 0,0", "row 0 0", "row three +0", "row three 0 0\n0 0", "comes three", "comes three ",
+                 "comes three --x", "comes three ? ?", "comes three ???\n", "comes three (?)", "paper three",
+                 "paper three 1", "first three", "first three ?*?", "count", "count three x", "count three\n",
+                 "polynomial three 2", "polynomial", "steps three ---", "steps three --- --- ---",
+                 "steps three --- --?", "steps three --? ---", "roads three", "roads three ---+++", "roads three --- ",
+                 "walls three", "walls three ?--", "walls three --- +++", "walls --- three",
+                 "count three\ncount three", "value three", "rows three", "keep a", "help", "names;", "undo undo", "?",
+                 "show  ", "row three 0 0 : 1", "walls three ---\n"]
         for text in wrong:
             self.refused(Unorderly, text, console.order, text)
         for text in (None, 7, True, ["names"], b"names", ("names",)):
@@ -338,7 +347,8 @@ class Orders(Trying):
 
     def test_no_order_goes_before_all_else(self):
         console = Console()
-        for text in ("show x y", "without a x y", "row x 0 00", "book X\nx", "walls x ?", "steps x - ?", "undo 0", "drop x x"):
+        for text in ("show x y", "without a x y", "row x 0 00", "book X\nx", "walls x ?", "steps x - ?", "undo 0",
+                     "drop x x"):
             self.refused(Unorderly, text, console.order, text)
         self.refused(UnknownName, "x", console.order, "row x 0")
         self.refused(UnknownName, "b", console.order, "merged a b 0")
@@ -351,7 +361,8 @@ class Orders(Trying):
         row = console.order("row three 1/3 1/3")
         self.assertEqual(console.order("comes three " + row), "yes")
         self.assertEqual(console.order("first three " + row), row)
-        self.assertEqual(rows.walls(THREE, read_row(row)), tuple(int(x) for x in console.order("walls three " + row).split()))
+        self.assertEqual(rows.walls(THREE, read_row(row)),
+                         tuple(int(x) for x in console.order("walls three " + row).split()))
         self.assertEqual(read_wish(row), read_row(row))
 
 

@@ -14,8 +14,9 @@ from tests.samples import CROSS, FORTY, MORE_BOOKS, NO_INTEGERS, STAR, STRIPES, 
 from tests.wrongs import NO_COUNTS, NO_SIZES, WrongInputs, each
 
 PLANES = [book for book in MORE_BOOKS if book[0] == 2 and len(book[1]) <= 6]
-FRAMES = [(-1, -1, 4, 4, 1), (0, 0, 1, 1, 1), (-3, -5, 20, 20, 2), (-7, 2, 6, 9, 3), (2, -4, 9, 5, 7), (-1, -2, 20, 7, 20),
-          (0, 0, 0, 0, 1), (1, 1, 0, 3, 2), (1, 1, 3, 0, 2), (FORTY, -FORTY, 3, 3, FORTY), (-2, -2, 20, 20, 5)]
+FRAMES = [(-1, -1, 4, 4, 1), (0, 0, 1, 1, 1), (-3, -5, 20, 20, 2), (-7, 2, 6, 9, 3), (2, -4, 9, 5, 7),
+          (-1, -2, 20, 7, 20), (0, 0, 0, 0, 1), (1, 1, 0, 3, 2), (1, 1, 3, 0, 2), (FORTY, -FORTY, 3, 3, FORTY),
+          (-2, -2, 20, 20, 5)]
 
 
 def expected(book, left, low, wide, high, size):

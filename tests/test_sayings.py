@@ -141,7 +141,8 @@ class Judged(unittest.TestCase):
     def test_all_small_ones_of_one_unknown(self):
         leaves = [(word, (side,), wall) for word in WORDS for side in (-1, 0, 2) for wall in (0, 1)]
         small = leaves + [("not", leaf) for leaf in leaves]
-        small += [(word, one, other) for word in ("both", "either") for one, other in product(leaves[::2], leaves[1::2])]
+        small += [(word, one, other) for word in ("both", "either")
+                  for one, other in product(leaves[::2], leaves[1::2])]
         for one in small:
             self.judge_all(1, one, ("not", ("not", one)))
             self.assertIsNone(parting(1, one, ("not", ("not", one))))

@@ -18,10 +18,11 @@ NUMBERS = [(0, 1), (1, 1), (-1, 1), (7, 1), (1, 2), (-1, 2), (22, 7), (-22, 7), 
 BOOKS = [book for book in MORE_BOOKS if all(abs(x) < 10 ** 9 for sides, wall in book[1] for x in sides + (wall,))]
 WIDE = (12, tuple((tuple((k == i) * 999999999 - (k == i + 1) for k in range(12)), -i) for i in range(12))
         + tuple(((0,) * 11 + (1,), 10 ** 8 + i) for i in range(8)))
-ODD = ["", " ", "\n", "-", "+", "/", ":", "(", ")", "[", "]", ".", "?", "a", "~", "!", "0", "00", "-0", "+0", "+1", "01",
-       "-01", "1/1", "2/4", "1/0", "0/0", "0/1", "0/2", "1/-2", "-1/-2", "1/", "/2", "1/2/3", "1 /2", "1/ 2", "1//2", "--1",
-       "-", "1-", "1.0", "1e3", "1_0", "0x1", "one", "None", "True", "1000000000", "-1000000000", "1/1000000000",
-       "1000000000/3", "4/2", "3/1", "-3/1", "01/2", "1/02", "+1/2", "1/+2", "-0/3", "()", "1,2", "1;2", "\t1", "1\t2", "1\r"]
+ODD = ["", " ", "\n", "-", "+", "/", ":", "(", ")", "[", "]", ".", "?", "a", "~", "!", "0", "00", "-0", "+0", "+1",
+       "01", "-01", "1/1", "2/4", "1/0", "0/0", "0/1", "0/2", "1/-2", "-1/-2", "1/", "/2", "1/2/3", "1 /2", "1/ 2",
+       "1//2", "--1", "-", "1-", "1.0", "1e3", "1_0", "0x1", "one", "None", "True", "1000000000", "-1000000000",
+       "1/1000000000", "1000000000/3", "4/2", "3/1", "-3/1", "01/2", "1/02", "+1/2", "1/+2", "-0/3", "()", "1,2",
+       "1;2", "\t1", "1\t2", "1\r"]
 
 
 def deep_saying(depth, many):
@@ -174,15 +175,16 @@ class Unread(unittest.TestCase):
         self.refused(2, readers.read_wish, "?\n?")
 
     def test_first_lines_of_books(self):
-        for text in ("", "\n", "book", "book ", " book 1", "book  1", "book 1 ", "Book 1", "book 01", "book -0", "book +1",
-                     "book 1/2", "book 1 2", "book one", "books 1", "book 1000000000", "1", "1 : 0", "book1", "x\n1 : 0",
-                     "\nbook 1", "book 1 :\n1 : 0", "bo ok 1", "book\n1", "book 1.0", "book 1\r"):
+        for text in ("", "\n", "book", "book ", " book 1", "book  1", "book 1 ", "Book 1", "book 01", "book -0",
+                     "book +1", "book 1/2", "book 1 2", "book one", "books 1", "book 1000000000", "1", "1 : 0",
+                     "book1", "x\n1 : 0", "\nbook 1", "book 1 :\n1 : 0", "bo ok 1", "book\n1", "book 1.0", "book 1\r"):
             self.refused(1, readers.read_book, text)
 
     def test_other_lines_of_books(self):
-        for line in ODD + ["1", "1 :", ": 1", " : 1", "1 : ", "1: 1", "1 :1", "1:1", "1  : 1", "1 :  1", " 1 : 1", "1 : 1 ",
-                           "1 : 1 : 1", "1 : 1 1", "1/2 : 1", "1 : 1/2", "01 : 1", "1 : 01", "-0 : 1", "1 : -0", "+1 : 1",
-                           "1 2  3 : 4", "1 : +1", "1000000000 : 1", "1 : 1000000000", "book 1", "1 . 1", "x : 1", "1 : x"]:
+        for line in ODD + ["1", "1 :", ": 1", " : 1", "1 : ", "1: 1", "1 :1", "1:1", "1  : 1", "1 :  1", " 1 : 1",
+                           "1 : 1 ", "1 : 1 : 1", "1 : 1 1", "1/2 : 1", "1 : 1/2", "01 : 1", "1 : 01", "-0 : 1",
+                           "1 : -0", "+1 : 1", "1 2  3 : 4", "1 : +1", "1000000000 : 1", "1 : 1000000000", "book 1",
+                           "1 . 1", "x : 1", "1 : x"]:
             if "\n" not in line:
                 self.refused(2, readers.read_book, "book 1\n" + line)
                 self.refused(3, readers.read_book, "book 1\n1 : 0\n" + line)
@@ -194,8 +196,9 @@ class Unread(unittest.TestCase):
 
     def test_what_is_no_book(self):
         for text in ("book 0", "book -1", "book -999999999", "book 0\n1 : 0", "book 1\n0 : 0", "book 1\n0 : 3",
-                     "book 2\n0 0 : 1", "book 2\n1 : 1", "book 1\n1 1 : 1", "book 2\n1 0 : 0\n1 : 0", "book 1\n1 : 1\n2 : 2",
-                     "book 2\n1 2 : 3\n-2 -4 : -6", "book 1\n1 : 0\n1 : 0", "book 3\n1 0 0 : 1\n0 0 0 : 1\n0 1 0 : 1"):
+                     "book 2\n0 0 : 1", "book 2\n1 : 1", "book 1\n1 1 : 1", "book 2\n1 0 : 0\n1 : 0",
+                     "book 1\n1 : 1\n2 : 2", "book 2\n1 2 : 3\n-2 -4 : -6", "book 1\n1 : 0\n1 : 0",
+                     "book 3\n1 0 0 : 1\n0 0 0 : 1\n0 1 0 : 1"):
             self.refused(0, readers.read_book, text)
 
     def test_a_wrong_line_goes_before_no_book(self):
@@ -206,19 +209,20 @@ class Unread(unittest.TestCase):
     def test_sayings(self):
         right = "(both (less [1 0] 1) (not (is [-2 3] 0)))"
         readers.read_saying(right)
-        for text in ODD + [right[1:], right[:-1], right + ")", "(" + right + ")", right + " ", " " + right, right + right,
-                           "(less [1] 1) (less [1] 1)", "(less 1 1)", "(less (1) 1)", "(less [] 1)", "(less [ ] 1)",
-                           "(less [1 ] 1)", "(less [ 1] 1)", "(less [1  0] 1)", "(less [1] 1 )", "( less [1] 1)",
-                           "(less  [1] 1)", "(less [1]  1)", "(less[1] 1)", "(less [1]1)", "(less [1])", "(less 1)",
-                           "(less [1] 1 1)", "(less [1] [1])", "(less [1] 01)", "(less [01] 1)", "(less [+1] 1)",
-                           "(less [-0] 1)", "(less [1] -0)", "(less [1/2] 1)", "(less [1] 1/2)", "(less [1,0] 1)",
-                           "(Less [1] 1)", "(equal [1] 1)", "([1] 1)", "(not)", "(not )", "(not less [1] 1)",
-                           "(not (less [1] 1) (less [1] 1))", "(both (less [1] 1))", "(both (less [1] 1) )",
-                           "(both (less [1] 1)(less [1] 1))", "(both (less [1] 1)  (less [1] 1))",
-                           "(both  (less [1] 1) (less [1] 1))", "(both (less [1] 1) (less [1] 1) (less [1] 1))",
-                           "(either (less [1] 1) (less [1 0] 1))", "(both (is [1 2] 3) (not (is [1] 3)))", "less [1] 1",
-                           "{less [1] 1}", "(less {1} 1)", "(less [1000000000] 1)", "(less [1] 1000000000)",
-                           "(not (not (less [1] 1))", "(not" * 40, "(not " * 9000, "(" * 9000, "(both " * 3 + ")" * 3]:
+        for text in ODD + [right[1:], right[:-1], right + ")", "(" + right + ")", right + " ", " " + right,
+                           right + right, "(less [1] 1) (less [1] 1)", "(less 1 1)", "(less (1) 1)", "(less [] 1)",
+                           "(less [ ] 1)", "(less [1 ] 1)", "(less [ 1] 1)", "(less [1  0] 1)", "(less [1] 1 )",
+                           "( less [1] 1)", "(less  [1] 1)", "(less [1]  1)", "(less[1] 1)", "(less [1]1)",
+                           "(less [1])", "(less 1)", "(less [1] 1 1)", "(less [1] [1])", "(less [1] 01)",
+                           "(less [01] 1)", "(less [+1] 1)", "(less [-0] 1)", "(less [1] -0)", "(less [1/2] 1)",
+                           "(less [1] 1/2)", "(less [1,0] 1)", "(Less [1] 1)", "(equal [1] 1)", "([1] 1)", "(not)",
+                           "(not )", "(not less [1] 1)", "(not (less [1] 1) (less [1] 1))", "(both (less [1] 1))",
+                           "(both (less [1] 1) )", "(both (less [1] 1)(less [1] 1))",
+                           "(both (less [1] 1)  (less [1] 1))", "(both  (less [1] 1) (less [1] 1))",
+                           "(both (less [1] 1) (less [1] 1) (less [1] 1))", "(either (less [1] 1) (less [1 0] 1))",
+                           "(both (is [1 2] 3) (not (is [1] 3)))", "less [1] 1", "{less [1] 1}", "(less {1} 1)",
+                           "(less [1000000000] 1)", "(less [1] 1000000000)", "(not (not (less [1] 1))", "(not" * 40,
+                           "(not " * 9000, "(" * 9000, "(both " * 3 + ")" * 3]:
             self.refused(1, readers.read_saying, text)
             self.refused(1, readers.read_saying, text + "\n(less [1] 1)")
         for text in (right + "\n", right + "\n\n", right + "\n" + right, "(less [1] 1)\nx", "(is [0] 0)\n "):

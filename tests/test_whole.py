@@ -68,7 +68,8 @@ class FromTexts(unittest.TestCase):
             told = console.book("one")
             for row in full_rows(told):
                 self.assertEqual(console.order("comes one " + show_row(row)), "yes")
-            self.assertEqual(console.order("count one"), show_number((how_many(told)[0], 1)) + " " + str(how_many(told)[1]))
+            self.assertEqual(console.order("count one"),
+                             show_number((how_many(told)[0], 1)) + " " + str(how_many(told)[1]))
             for k in range(len(told[1])):
                 for made, call in (("without", without), ("turned", turned)):
                     console.order(made + " two one " + str(k))
@@ -81,7 +82,8 @@ class Counted(unittest.TestCase):
         for told in BOOKS + [SPREAD]:
             every = rows(told)
             full, held = how_many(told)
-            self.assertEqual((full, held), (len(full_rows(told)), len([row for row in held_rows(told) if 0 not in row])))
+            self.assertEqual((full, held),
+                             (len(full_rows(told)), len([row for row in held_rows(told) if 0 not in row])))
             self.assertEqual(rows_by_free(told), noughts(told))
             self.assertEqual(sum(noughts(told)), len(every))
             self.assertEqual(abs(value(polynomial(told), -1)), full)
@@ -98,7 +100,8 @@ class Counted(unittest.TestCase):
         for told in [told for told in BOOKS if told[0] > 1]:
             for k in range(len(told[1])):
                 less = polynomial(merged(told, k))
-                self.assertEqual(polynomial(told), tuple(a - b for a, b in zip(polynomial(without(told, k)), (0,) + less)))
+                self.assertEqual(polynomial(told),
+                                 tuple(a - b for a, b in zip(polynomial(without(told, k)), (0,) + less)))
 
     def test_one_flat_through_all_is_met_at_once(self):
         for told in BOOKS:
@@ -157,7 +160,8 @@ class Walked(unittest.TestCase):
                 self.assertGreater(table(told, lot)[place[0]][place[1]][0], 0)
             n = enough(told, lot, (1, 10))
             self.assertLessEqual(Fraction(*distance(told, lot, row, n)), Fraction(*bound(told, lot, n)))
-            apart = sum(abs(Fraction(*a) - Fraction(*b)) for a, b in zip(behind(told, lot, row, n), long_run(told, lot)))
+            apart = sum(abs(Fraction(*a) - Fraction(*b))
+                        for a, b in zip(behind(told, lot, row, n), long_run(told, lot)))
             self.assertEqual(apart / 2, Fraction(*distance(told, lot, row, n)))
             self.assertEqual(read_number(show_number(distance(told, lot, row, 1))), distance(told, lot, row, 1))
 

@@ -142,7 +142,8 @@ def no_orders():
     wrong += [((0,), (2, 1)), ((1, 0), (2,)), ((2, 1, 0),), ((0,), (1,), (2,), ()), ((), (0, 1, 2)), ((0,), (0, 1, 2))]
     wrong += [((0,), (1,), (1,)), ((0, 0), (1, 2)), ((0, 1, 1, 2),), ((0,), [1], (2,)), ((0,), 1, (2,)), ("012",)]
     wrong += [((0,), (1, True), (2,)), ((0,), (True, 2)), ((False,), (1, 2)), ((0,), ("1",), (2,)), ((0,), (1, None))]
-    return wrong + [((0, 1), (3,)), ((0, 1), (-1,)), ((1,), (2, 3)), ((0,), (1, 2.0)), ((0,), ((1,), 2)), (None,), ((0,),)]
+    return wrong + [((0, 1), (3,)), ((0, 1), (-1,)), ((1,), (2, 3)), ((0,), (1, 2.0)), ((0,), ((1,), 2)), (None,),
+                    ((0,),)]
 
 
 RING_ROWS = no_rows((4, (1, 2, 3, 4)))
@@ -213,15 +214,17 @@ def no_sayings():
     """What is no saying of two unknowns."""
     wrong = NO_TUPLES + [(), list(FINE), "less", ("less",), ("less", (1, 0)), ("less", 1), ("less", (1, 0), 1, 0)]
     wrong += [(word, (1, 0), 1) for word in ("", "Less", "less ", "equal", None, True, 1, b"less", ("less",), ["less"])]
-    wrong += [("is", sides, 1) for sides in ((), (1,), (1, 0, 0), [1, 0], "10", None, 1, (1, True), (False, 0), (1, "0"),
-                                             (None, 0), (1.0, 0), ((1,), 0), ((1, 1), (0, 1)), {})]
+    wrong += [("is", sides, 1) for sides in ((), (1,), (1, 0, 0), [1, 0], "10", None, 1, (1, True), (False, 0),
+                                             (1, "0"), (None, 0), (1.0, 0), ((1,), 0), ((1, 1), (0, 1)), {})]
     wrong += [("more", (0, 0), wall) for wall in NO_INTEGERS + [(0, 1)]]
     wrong += [("not",), ("not", FINE, FINE), ("not", None), ("not", "less"), ("not", list(FINE)), ("not", ())]
     wrong += [("both",), ("both", FINE), ("both", FINE, FINE, FINE), ("either", FINE), ("either", FINE, FINE, FINE)]
     wrong += [(word, FINE, other) for word in ("both", "either") for other in (None, [], "is", (), FINE[:2], ("not",))]
     wrong += [(word, other, FINE) for word in ("both", "either") for other in (None, [], "is", (), FINE[1:], ("not",))]
-    wrong += [["not", FINE], ["both", FINE, FINE], ("neither", FINE, FINE), ("and", FINE, FINE), ("not", ("less", (1,), 1))]
-    wrong += [("both", FINE, ("is", (1, 0, 0), 0)), ("either", ("is", (1,), 0), ("is", (1,), 0)), ("both", (FINE, FINE))]
+    wrong += [["not", FINE], ["both", FINE, FINE], ("neither", FINE, FINE), ("and", FINE, FINE),
+              ("not", ("less", (1,), 1))]
+    wrong += [("both", FINE, ("is", (1, 0, 0), 0)), ("either", ("is", (1,), 0), ("is", (1,), 0)),
+              ("both", (FINE, FINE))]
     deep = ("both", FINE, ("not", ("either", FINE, ("not", ("less", (1, 0), True)))))
     return wrong + [deep, ("not", [FINE]), (FINE,), (FINE, FINE), ("less", FINE, FINE), ("not", (1, 0), 1)]
 
