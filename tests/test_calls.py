@@ -228,6 +228,37 @@ class Calls(unittest.TestCase):
                 self.assertEqual(again, before)
                 self.assertFalse([item for item in again if not isinstance(item, (tuple, str))])
 
+    def test_a_truth_in_the_place_of_1_behind_the_right_book(self):
+        truth = (2, (((True, 0), 0),) + THREE[1][1:])
+        self.assertEqual(truth, THREE)
+        for call, names, some in CALLS:
+            for told in some:
+                if names[0] in ("book", "one") and told[0] is THREE and call is not texts.show_book:
+                    right = outcome(call, *told)
+                    self.assertEqual(outcome(call, truth, *told[1:]), ("InvalidBook", repr(truth)))
+                    self.assertEqual(outcome(call, *told), right)
+        for row, wrong in ((LOW, (-1, -1, -1.0)), (HIGH, (1, True, 1)), ((0, 0, -1), (0, False, -1))):
+            for call in (products.ahead, products.parts, products.is_under):
+                self.assertEqual(outcome(call, THREE, row, row)[0], "answer")
+                self.assertEqual(outcome(call, THREE, row, wrong), ("InvalidRow", repr(wrong)))
+                self.assertEqual(outcome(call, THREE, wrong, row), ("InvalidRow", repr(wrong)))
+
+    def test_behind_changed_lists(self):
+        some = [LOW, HIGH]
+        self.assertEqual(products.ahead_all(THREE, some), LOW)
+        self.assertEqual([row for row, _ in walks.even_lot(THREE, some)], [LOW, HIGH])
+        some.insert(0, (1, -1, -1))
+        self.assertEqual(products.ahead_all(THREE, some), (1, -1, -1))
+        self.assertEqual([row for row, _ in walks.even_lot(THREE, some)], [LOW, (1, -1, -1), HIGH])
+        some[1] = BARRED
+        self.assertEqual(outcome(products.ahead_all, THREE, some), ("NeverComes", repr(BARRED)))
+        self.assertEqual(outcome(walks.even_lot, THREE, some), ("InvalidLot", repr(some)))
+        questions = [list(question) for question in THREE[1]]
+        told = [2, questions]
+        self.assertEqual(outcome(rows.rows, told), ("InvalidBook", repr(told)))
+        self.assertEqual(outcome(rows.rows, (2, tuple(questions)))[0], "InvalidBook")
+        self.assertEqual(rows.rows((2, tuple(tuple(question) for question in questions))), rows.rows(THREE))
+
     def test_a_changed_list_does_not_change_the_book(self):
         told = list(QUESTIONS)
         made = books.book(2, told)

@@ -1,4 +1,4 @@
-"""The rules of the language that a plain look at the files can tell: L1, L2, L8, L10, L12, L14 to L16."""
+"""The rules of the language that a plain look at the files can tell: L1, L2, L7, L8, L10, L12, L14 to L16, L20, L25."""
 
 import ast
 import builtins
@@ -12,6 +12,9 @@ LIBRARY = {"math": {"gcd", "lcm", "isqrt", "comb", "perm", "factorial"},
 ALLOWED = set("""len range enumerate zip min max sum abs sorted reversed int str bool list tuple dict set isinstance
     ord repr any all divmod pow iter next map ValueError TypeError KeyError IndexError LookupError ZeroDivisionError
     """.split())
+METHODS = set("""append clear copy count endswith extend find get index insert isalnum isalpha isdigit islower isspace
+    isupper items join keys ljust lower lstrip partition pop remove replace reverse rfind rjust rpartition rsplit rstrip
+    setdefault split splitlines startswith strip update upper values zfill bit_length add discard isascii""".split())
 # Not `_`, under which Python keeps what a console showed last.
 BUILTINS = set(dir(builtins)) - {"_"}
 
@@ -95,6 +98,33 @@ class Language(unittest.TestCase):
             taken += [alias.name for node in tree.body if isinstance(node, ast.ImportFrom) for alias in node.names]
             self.assertEqual([name for name in inner if name in taken], [])
             self.assertNotRegex(path.read_text(), r"\b_(wall|WallAttr|pe_|dcw_|enum_|cm_|lay_|law_|stub_|sre|record)")
+
+    def test_methods(self):
+        own = {node.name for _, tree in TREES for outer in tree.body if isinstance(outer, ast.ClassDef)
+               for node in outer.body if isinstance(node, ast.FunctionDef)}
+        for path, tree in TREES:
+            called = {node.func.attr for node in ast.walk(tree)
+                      if isinstance(node, ast.Call) and isinstance(node.func, ast.Attribute)}
+            self.assertLessEqual(called, METHODS | own, path.name)
+
+    def test_signs(self):
+        for path, tree in TREES:
+            for node in ast.walk(tree):
+                self.assertNotIsInstance(node, (ast.Div, ast.AsyncFunctionDef), path.name)
+                if isinstance(node, ast.Compare) and any(isinstance(sign, (ast.Is, ast.IsNot)) for sign in node.ops):
+                    self.assertEqual([told.value for told in node.comparators], [None], path.name)
+                if isinstance(node, ast.Constant):
+                    self.assertNotIsInstance(node.value, float)
+
+    def test_no_state_at_module_level(self):
+        for path, tree in TREES:
+            tables = {node.targets[0].id for node in tree.body if isinstance(node, ast.Assign)}
+            for node in ast.walk(tree):
+                if isinstance(node, ast.Subscript) and not isinstance(node.ctx, ast.Load):
+                    self.assertNotIn(getattr(node.value, "id", None), tables, path.name)
+                if isinstance(node, ast.Attribute) and isinstance(node.value, ast.Name):
+                    if node.value.id in tables:
+                        self.assertEqual(node.attr, "get", path.name)
 
     def test_builtins(self):
         for path, tree in TREES:

@@ -7,8 +7,7 @@ from sidebooks.errors import (HasRound, InvalidBook, InvalidIndex, InvalidLot, I
                               InvalidPoint, InvalidRow, InvalidSaying, InvalidTape, InvalidWeb, NeverComes, NoLongRun,
                               NotFull)
 from tests.lots import LINE, THIRDS, even
-from tests.samples import (CROSS, FORTY, NO_INTEGERS, NO_NUMBERS, THREE, no_books, no_indexes, no_points,
-                           no_rows)
+from tests.samples import CROSS, FORTY, NO_INTEGERS, NO_NUMBERS, THREE, no_books, no_points, no_rows
 from tests.wrongs import NO_COUNTS, NO_SIZES, NO_TUPLES, NOT_ABOVE_0, WrongInputs, each
 
 LOW, MIDDLE, HIGH, BARRED = (-1, -1, -1), (-1, 1, 1), (1, 1, 1), (-1, -1, 1)
