@@ -5,8 +5,9 @@ from sidebooks.basics import is_whole, sign
 from sidebooks.books import check_book
 from sidebooks.errors import InvalidBook, InvalidNumber
 
-# At most 22 full rows come for six questions; the great letters are for books somewhat beyond that.
+# At most 22 full rows come for six questions; the great letters, and a sign for all more, are for greater books.
 LETTERS = "abcdefghijklmnopqrstuvwxyzABCDEFGHIJKLMNOPQRSTUVWXYZ"
+NO_LETTER = "?"
 
 
 def drawn(book, left, low, wide, high, size):
@@ -14,7 +15,7 @@ def drawn(book, left, low, wide, high, size):
     if book[0] != 2:
         raise InvalidBook(book)
     _check_frame(left, low, wide, high, size)
-    letters = {row: LETTERS[place] for place, row in enumerate(full_rows_of(book))}
+    letters = {row: LETTERS[place:place + 1] or NO_LETTER for place, row in enumerate(full_rows_of(book))}
     # All is taken times the size, so that it stays whole.
     across = [left * size + i for i in range(wide)]
     up = [low * size + j for j in range(high)]

@@ -76,6 +76,11 @@ class Drawings(unittest.TestCase):
         self.assertLessEqual(set(found), set("." + ascii_letters[:22]))
         self.assertIn("v", found)
 
+    def test_more_rows_than_letters(self):
+        stripes = (2, tuple(((1, 0), k) for k in range(60)))
+        signs = ascii_letters[1:] + "?" * 9
+        self.assertEqual(drawn(stripes, -1, 0, 122, 1, 2), ["aa" + "".join("." + sign for sign in signs)])
+
     def test_moved_and_turned(self):
         for book in (THREE, STAR):
             other = moved(book, ((3, 1), (-2, 1)))
