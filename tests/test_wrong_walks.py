@@ -224,6 +224,7 @@ def no_sayings():
               ("not", ("less", (1,), 1))]
     wrong += [("both", FINE, ("is", (1, 0, 0), 0)), ("either", ("is", (1,), 0), ("is", (1,), 0)),
               ("both", (FINE, FINE))]
+    wrong += [("neither",), ("",), ("and", FINE), ("Not", FINE), ("not ", FINE), ("", FINE, FINE), ("if", FINE, FINE)]
     deep = ("both", FINE, ("not", ("either", FINE, ("not", ("less", (1, 0), True)))))
     return wrong + [deep, ("not", [FINE]), (FINE,), (FINE, FINE), ("less", FINE, FINE), ("not", (1, 0), 1)]
 
